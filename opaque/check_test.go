@@ -173,31 +173,40 @@ func TestFaultsAreNoErrors(t *testing.T) {
 	}
 }
 
+// setsOfErrors is how many setups faultySetup knows.
+const setsOfErrors = 32
+
+// faultySetup has the errors whose bits are set, and tells the one that is named first.
+func faultySetup(set int) (api.Setup, api.Errno) {
+	s := goodSetup()
+	want := api.OK
+	if set&16 != 0 {
+		s.Jobs[0].Code = make([]api.Ins, 21)
+		want = api.ErrCode
+	}
+	if set&8 != 0 {
+		s.Jobs[2].Thread = 2
+		want = api.ErrJobs
+	}
+	if set&4 != 0 {
+		s.Jobs = append(s.Jobs, make([]api.Job, 6)...)
+		want = api.ErrJobs
+	}
+	if set&2 != 0 {
+		s.Mem[2] = 65536
+		want = api.ErrMemory
+	}
+	if set&1 != 0 {
+		s.Config.Fuel = 0
+		want = api.ErrConfig
+	}
+	return s, want
+}
+
 // Every set of errors at once: the one named first is the answer.
 func TestFirstErrorCounts(t *testing.T) {
-	for set := 0; set < 32; set++ {
-		s := goodSetup()
-		want := api.OK
-		if set&16 != 0 {
-			s.Jobs[0].Code = make([]api.Ins, 21)
-			want = api.ErrCode
-		}
-		if set&8 != 0 {
-			s.Jobs[2].Thread = 2
-			want = api.ErrJobs
-		}
-		if set&4 != 0 {
-			s.Jobs = append(s.Jobs, make([]api.Job, 6)...)
-			want = api.ErrJobs
-		}
-		if set&2 != 0 {
-			s.Mem[2] = 65536
-			want = api.ErrMemory
-		}
-		if set&1 != 0 {
-			s.Config.Fuel = 0
-			want = api.ErrConfig
-		}
+	for set := 0; set < setsOfErrors; set++ {
+		s, want := faultySetup(set)
 		if e := Check(s); e != want {
 			t.Errorf("P1: errors %05b: Check answers %d, want %d", set, e, want)
 		}

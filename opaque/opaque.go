@@ -5,6 +5,7 @@ import (
 	"opaque/alone"
 	"opaque/api"
 	"opaque/check"
+	"opaque/play"
 )
 
 // Check tells whether a setup is one (P3).
@@ -21,10 +22,22 @@ func Alone(c api.Config, mem []int, code []api.Ins) (api.Result, []int, api.Errn
 }
 
 // Play tells the access of each pick (P5).
-func Play(s api.Setup, picks []api.Pick) ([]api.Access, api.Errno) { return nil, api.OK }
+func Play(s api.Setup, picks []api.Pick) ([]api.Access, api.Errno) {
+	e := check.Setup(s)
+	if e != api.OK {
+		return nil, e
+	}
+	return play.Accesses(s, picks), api.OK
+}
 
 // Cells tells what stands in the cells behind the picks (P6).
-func Cells(s api.Setup, picks []api.Pick) ([]int, api.Errno) { return nil, api.OK }
+func Cells(s api.Setup, picks []api.Pick) ([]int, api.Errno) {
+	e := check.Setup(s)
+	if e != api.OK {
+		return nil, e
+	}
+	return play.Cells(s, picks), api.OK
+}
 
 // Jobs tells what has come of the jobs (P8).
 func Jobs(s api.Setup, picks []api.Pick) ([]api.Result, api.Errno) { return nil, api.OK }

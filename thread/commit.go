@@ -1,0 +1,87 @@
+package thread
+
+import (
+	"opaque/api"
+	"opaque/cells"
+)
+
+// followCommit is the part of a commit that may still be turned back.
+func (t *Thread) followCommit(seen int) {
+	a := &t.attempt
+	switch t.step {
+	case commitStatus:
+		if marked(seen) {
+			t.obstruct()
+			return
+		}
+		t.swap(commitGate, cells.Gate, 0, t.name())
+	case commitGate:
+		// Somebody in the gate leaves the step as it is: the same try again.
+		if seen == 0 {
+			t.load(commitClock, cells.Clock)
+		}
+	case commitClock:
+		if seen != a.valid {
+			t.obstruct()
+			return
+		}
+		a.stamp = seen + 1
+		a.at = 0
+		t.shutNext()
+	}
+}
+
+// followCommitStore is the part of a commit that nothing turns back.
+func (t *Thread) followCommitStore() {
+	a := &t.attempt
+	switch t.step {
+	case commitShut:
+		a.at++
+		t.shutNext()
+	case commitStamp:
+		t.store(commitLeave, cells.Gate, 0)
+	case commitLeave:
+		a.at = 0
+		t.putNext()
+	case commitWord:
+		a.at++
+		t.putNext()
+	case commitVersion:
+		t.store(commitOwner, cells.Owner(t.config, a.held[a.at]), 0)
+	case commitOwner:
+		a.at++
+		t.releaseNext()
+	}
+}
+
+// shutNext shuts the stripes from the place at on, and then stamps.
+func (t *Thread) shutNext() {
+	a := &t.attempt
+	if a.at < len(a.held) {
+		t.store(commitShut, cells.Version(a.held[a.at]), api.Shut)
+	} else {
+		t.store(commitStamp, cells.Clock, a.stamp)
+	}
+}
+
+// putNext puts the words of the write log from the place at on, and then turns to the stripes.
+func (t *Thread) putNext() {
+	a := &t.attempt
+	if a.at < len(a.writes) {
+		w := a.writes[a.at]
+		t.store(commitWord, cells.Word(t.config, w.addr), w.value)
+	} else {
+		a.at = 0
+		t.releaseNext()
+	}
+}
+
+// releaseNext opens and gives back the stripes from the place at on, and then ends.
+func (t *Thread) releaseNext() {
+	a := &t.attempt
+	if a.at < len(a.held) {
+		t.store(commitVersion, cells.Version(a.held[a.at]), a.stamp)
+	} else {
+		t.endAttempt()
+	}
+}

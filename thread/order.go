@@ -1,0 +1,46 @@
+package thread
+
+import (
+	"opaque/api"
+	"opaque/cells"
+)
+
+// An access hangs on nothing but what its thread knows ahead of it, so it is laid down as soon as its step is reached.
+
+func (t *Thread) load(step int, cell int) {
+	t.step = step
+	t.order = cells.Order{Kind: api.Load, Cell: cell}
+}
+
+func (t *Thread) store(step int, cell int, put int) {
+	t.step = step
+	t.order = cells.Order{Kind: api.Store, Cell: cell, Put: put}
+}
+
+func (t *Thread) swap(step int, cell int, from int, put int) {
+	t.step = step
+	t.order = cells.Order{Kind: api.Swap, Cell: cell, From: from, Put: put}
+}
+
+func (t *Thread) take(step int, cell int) {
+	t.step = step
+	t.order = cells.Order{Kind: api.Take, Cell: cell}
+}
+
+func (t *Thread) ownStatus() int {
+	return cells.Status(t.config, t.number)
+}
+
+// name is how the thread stands in the gate and in owners, where 0 is nobody.
+func (t *Thread) name() int {
+	return t.number + 1
+}
+
+// stripe is that of the word which the code is at.
+func (t *Thread) stripe() int {
+	return t.attempt.turn.Addr % t.config.Stripes
+}
+
+func marked(status int) bool {
+	return status%statusBase != 0
+}

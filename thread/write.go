@@ -1,0 +1,78 @@
+package thread
+
+import (
+	"opaque/api"
+	"opaque/cells"
+)
+
+// write begins a Write.
+func (t *Thread) write() {
+	a := &t.attempt
+	if a.holds(t.stripe()) {
+		a.log(a.turn.Addr, a.turn.Value)
+		t.step = running
+		return
+	}
+	t.load(getStatus, t.ownStatus())
+}
+
+func (t *Thread) followGet(seen int) {
+	a := &t.attempt
+	switch t.step {
+	case getStatus:
+		if marked(seen) {
+			t.obstruct()
+			return
+		}
+		t.swap(getOwner, cells.Owner(t.config, t.stripe()), 0, t.name())
+	case getOwner:
+		if seen != 0 {
+			t.obstruct()
+			return
+		}
+		a.held = append(a.held, t.stripe())
+		t.load(getVersion, cells.Version(t.stripe()))
+	case getVersion:
+		if seen > a.valid {
+			t.obstruct()
+			return
+		}
+		t.writeGot()
+	}
+}
+
+// writeGot ends a Write for which a stripe was got.
+func (t *Thread) writeGot() {
+	a := &t.attempt
+	a.log(a.turn.Addr, a.turn.Value)
+	greedy := t.config.Greedy
+	if t.rank == 0 && greedy > 0 && len(a.held) == greedy {
+		t.take(takeTicket, cells.Tickets)
+	} else {
+		t.step = running
+	}
+}
+
+func (t *Thread) followTicket(access api.Access) {
+	switch t.step {
+	case takeTicket:
+		t.rank = access.Put
+		t.swap(showRank, t.ownStatus(), 0, statusBase*t.rank)
+	case showRank:
+		if access.Seen != 0 {
+			t.obstruct()
+			return
+		}
+		t.step = running
+	}
+}
+
+// log lays a value into the write log, which has each word once.
+func (a *attempt) log(addr int, value int) {
+	place := a.find(addr)
+	if place < len(a.writes) {
+		a.writes[place].value = value
+		return
+	}
+	a.writes = append(a.writes, written{addr: addr, value: value})
+}
