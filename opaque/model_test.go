@@ -37,7 +37,6 @@ func (m *model) word(addr int) int       { return 3 + 2*m.config.Stripes + m.con
 func (m *model) inLog(addr int) bool     { return slices.Contains(m.addrs, addr) }
 func (m *model) isHeld(stripe int) bool  { return slices.Contains(m.held, stripe) }
 func (m *model) stripeOf(addr int) int   { return addr % m.config.Stripes }
-func (m *model) isWord(addr int) bool    { return addr >= 0 && addr < m.config.Words }
 func isAnyOf(n int, numbers ...int) bool { return slices.Contains(numbers, n) }
 
 func (m *model) read(addr int) int {
@@ -93,11 +92,17 @@ func (m *model) commit() {
 	}
 }
 
-// run interprets a code up to its fate.
-func (m *model) run(code []api.Ins) int {
+// reach is how a code comes to words.
+type reach interface {
+	read(addr int) int
+	write(addr, value int)
+}
+
+// interpret runs a code up to its fate.
+func interpret(c api.Config, code []api.Ins, words reach) int {
 	var r [4]int
 	place := 0
-	for fuel := m.config.Fuel; place != len(code); fuel-- {
+	for fuel := c.Fuel; place != len(code); fuel-- {
 		if fuel == 0 {
 			return api.Spent
 		}
@@ -106,7 +111,7 @@ func (m *model) run(code []api.Ins) int {
 		if !formedIn(i, len(code)) {
 			return api.Broke
 		}
-		if i.Op == api.Read && !m.isWord(r[i.B]) || i.Op == api.Write && !m.isWord(r[i.A]) {
+		if i.Op == api.Read && r[i.B] >= c.Words || i.Op == api.Write && r[i.A] >= c.Words {
 			return api.Broke
 		}
 		switch i.Op {
@@ -127,9 +132,9 @@ func (m *model) run(code []api.Ins) int {
 				place = i.C
 			}
 		case api.Read:
-			r[i.A] = m.read(r[i.B])
+			r[i.A] = words.read(r[i.B])
 		case api.Write:
-			m.write(r[i.A], r[i.B])
+			words.write(r[i.A], r[i.B])
 		}
 	}
 	return api.Done
@@ -153,7 +158,7 @@ func formedIn(i api.Ins, length int) bool {
 func (m *model) job(code []api.Ins) {
 	m.rank, m.held, m.addrs = 0, nil, nil
 	m.load(0)
-	fate := m.run(code)
+	fate := interpret(m.config, code, m)
 	if fate == api.Done && len(m.held) > 0 {
 		m.commit()
 	}

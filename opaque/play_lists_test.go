@@ -101,21 +101,27 @@ func TestManyPicks(t *testing.T) {
 
 // roomySetup has spare room behind all its lists, and tells what stands in it.
 type roomySetup struct {
-	mem   []int
-	code  []api.Ins
-	jobs  []api.Job
-	picks []api.Pick
+	threads int
+	mem     []int
+	code    []api.Ins
+	jobs    []api.Job
+	picks   []api.Pick
 }
 
-func newRoomySetup(code []api.Ins) roomySetup {
-	r := roomySetup{mem: []int{5, 6, -8, -9}, code: append(slices.Clone(code), api.Ins{Op: 21}, api.Ins{Op: 22})}
-	r.jobs = []api.Job{{Code: r.code[:len(code)]}, {Code: r.code[:len(code)]}, {Thread: 31}}
+func newRoomySetup(threads int, code []api.Ins) roomySetup {
+	r := roomySetup{threads: threads, mem: []int{5, 6, -8, -9}, code: append(slices.Clone(code), api.Ins{Op: 21}, api.Ins{Op: 22})}
+	r.jobs = []api.Job{{Code: r.code[:len(code)]}, {Thread: threads - 1, Code: r.code[:len(code)]}, {Thread: 31}}
 	r.picks = append(times(60, 0), api.Pick{Thread: 41})
+	for i := range 60 {
+		r.picks[i].Thread = i % threads
+	}
 	return r
 }
 
 func (r roomySetup) setup() api.Setup {
-	return api.Setup{Config: soloConfig(2, 9), Mem: r.mem[:2], Jobs: r.jobs[:2]}
+	s := api.Setup{Config: soloConfig(2, 9), Mem: r.mem[:2], Jobs: r.jobs[:2]}
+	s.Config.Threads = r.threads
+	return s
 }
 
 func (r roomySetup) given() []api.Pick { return r.picks[:60] }
@@ -129,14 +135,15 @@ func (r roomySetup) same(o roomySetup) bool {
 
 // What is handed in stays, with its spare room, when it is played and when what came out is written into.
 func TestPlayedListsAreTheirOwn(t *testing.T) {
-	for _, code := range codesOfEachFate() {
-		r := newRoomySetup(code)
+	for n, code := range slices.Concat(codesOfEachFate(), codesOfEachFate()) {
+		threads := 1 + n/len(codesOfEachFate())
+		r := newRoomySetup(threads, code)
 		l, e := Play(r.setup(), r.given())
 		c, f := Cells(r.setup(), r.given())
-		if e != api.OK || f != api.OK || len(l) != 60 || len(c) != 3+2+1+2 {
+		if e != api.OK || f != api.OK || len(l) != 60 || len(c) != 3+2+threads+2 {
 			t.Errorf("P2: what stands behind the lists counts: %d, %d, %d, %d", e, f, len(l), len(c))
 		}
-		if !r.same(newRoomySetup(code)) {
+		if !r.same(newRoomySetup(threads, code)) {
 			t.Errorf("P2: %v: what was handed in became %v", code, r)
 		}
 		other, _ := Play(r.setup(), r.given())
@@ -149,7 +156,7 @@ func TestPlayedListsAreTheirOwn(t *testing.T) {
 		for i := range c {
 			c[i] = 1000 + i
 		}
-		if !r.same(newRoomySetup(code)) || !slices.Equal(other, wantOther) || !slices.Equal(otherCells, wantCells) {
+		if !r.same(newRoomySetup(threads, code)) || !slices.Equal(other, wantOther) || !slices.Equal(otherCells, wantCells) {
 			t.Errorf("P2: %v: writing into what came out changed another list", code)
 		}
 		third, _ := Play(r.setup(), r.given())
@@ -166,6 +173,10 @@ func TestPlayedBeforeDoesNotMatter(t *testing.T) {
 	for n := 0; n < 300; n++ {
 		s, me := d.soloSetup()
 		picks := times(50, me)
+		if n%2 == 0 {
+			s = d.crowdSetup()
+			picks = d.crowdPicks(s.Config.Threads)
+		}
 		l, _ := Play(s, picks)
 		c, _ := Cells(s, picks)
 		Cells(d.anySetup(), d.anyPicks())

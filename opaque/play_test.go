@@ -69,7 +69,7 @@ func (sc scene) setup(threads int, thread int) api.Setup {
 	return s
 }
 
-// cellNumber is the table of cells.
+// cellNumber is the table of cells. With a number behind t it is the status of the thread that comes so many behind this one.
 func cellNumber(c api.Config, thread int, name string) int {
 	n, _ := strconv.Atoi(name[1:])
 	switch name[0] {
@@ -84,7 +84,7 @@ func cellNumber(c api.Config, thread int, name string) int {
 	case 'o':
 		return 3 + c.Stripes + n
 	case 't':
-		return 3 + 2*c.Stripes + thread
+		return 3 + 2*c.Stripes + thread + n
 	}
 	return 3 + 2*c.Stripes + c.Threads + n
 }

@@ -45,5 +45,5 @@ func (w *world) pick(jobs []api.Job, pick api.Pick) api.Access {
 	if !bounds.Within(pick.Thread, 0, len(w.threads)-1) {
 		return api.Access{}
 	}
-	return w.threads[pick.Thread].Pick(jobs, &w.shared)
+	return w.threads[pick.Thread].Pick(jobs, &w.shared, pick.Draw)
 }

@@ -11,7 +11,7 @@ func (t *Thread) followCommit(seen int) {
 	switch t.step {
 	case commitStatus:
 		if marked(seen) {
-			t.obstruct()
+			t.fail()
 			return
 		}
 		t.swap(commitGate, cells.Gate, 0, t.name())
@@ -21,14 +21,37 @@ func (t *Thread) followCommit(seen int) {
 			t.load(commitClock, cells.Clock)
 		}
 	case commitClock:
-		if seen != a.valid {
-			t.obstruct()
+		a.clock = seen
+		a.at = 0
+		t.checkNext()
+	case commitCheck:
+		if seen != a.reads[a.at].version {
+			t.failInGate()
 			return
 		}
-		a.stamp = seen + 1
-		a.at = 0
-		t.shutNext()
+		a.at++
+		t.checkNext()
 	}
+}
+
+// checkNext looks at the stripes of the read log from the place at on, and then shuts those that are held. As long as the clock stands at the valid time, nothing can have changed.
+func (t *Thread) checkNext() {
+	a := &t.attempt
+	for a.clock != a.valid && a.at < len(a.reads) {
+		stripe := a.reads[a.at].stripe
+		if !a.holds(stripe) {
+			t.load(commitCheck, cells.Version(stripe))
+			return
+		}
+		a.at++
+	}
+	a.at = 0
+	t.shutNext()
+}
+
+// stamp is that of an attempt in the gate, or behind it.
+func (a *attempt) stamp() int {
+	return a.clock + 1
 }
 
 // followCommitStore is the part of a commit that nothing turns back.
@@ -60,7 +83,7 @@ func (t *Thread) shutNext() {
 	if a.at < len(a.held) {
 		t.store(commitShut, cells.Version(a.held[a.at]), api.Shut)
 	} else {
-		t.store(commitStamp, cells.Clock, a.stamp)
+		t.store(commitStamp, cells.Clock, a.stamp())
 	}
 }
 
@@ -80,7 +103,7 @@ func (t *Thread) putNext() {
 func (t *Thread) releaseNext() {
 	a := &t.attempt
 	if a.at < len(a.held) {
-		t.store(commitVersion, cells.Version(a.held[a.at]), a.stamp)
+		t.store(commitVersion, cells.Version(a.held[a.at]), a.stamp())
 	} else {
 		t.endAttempt()
 	}

@@ -31,7 +31,12 @@ func (t *Thread) ownStatus() int {
 	return cells.Status(t.config, t.number)
 }
 
-// name is how the thread stands in the gate and in owners, where 0 is nobody.
+// statusOf is the status of the thread of that name.
+func (t *Thread) statusOf(name int) int {
+	return cells.Status(t.config, name-1)
+}
+
+// name is how the thread stands in the gate, in owners and in marks, where 0 is nobody.
 func (t *Thread) name() int {
 	return t.number + 1
 }
@@ -41,6 +46,14 @@ func (t *Thread) stripe() int {
 	return t.attempt.turn.Addr % t.config.Stripes
 }
 
+func rankIn(status int) int {
+	return status / statusBase
+}
+
+func markIn(status int) int {
+	return status % statusBase
+}
+
 func marked(status int) bool {
-	return status%statusBase != 0
+	return markIn(status) != 0
 }

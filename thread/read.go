@@ -46,11 +46,22 @@ func (t *Thread) trust(version int) {
 		t.load(readVersion, cells.Version(t.stripe()))
 		return
 	}
+	a.look(t.stripe(), version)
 	if version > a.valid {
-		t.obstruct()
+		t.extend()
 		return
 	}
 	t.give(a.value)
+}
+
+// look lays a version into the read log, which has each stripe once, with the version that was seen first.
+func (a *attempt) look(stripe int, version int) {
+	for _, l := range a.reads {
+		if l.stripe == stripe {
+			return
+		}
+	}
+	a.reads = append(a.reads, looked{stripe: stripe, version: version})
 }
 
 func (t *Thread) give(value int) {

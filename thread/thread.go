@@ -7,11 +7,10 @@ import (
 	"opaque/machine"
 )
 
-// The steps of a thread: what its next access is for. In the first three it has none ahead of it.
+// The steps of a thread: what its next access is for. In the first two it has none ahead of it.
 const (
-	idle       = iota // all its jobs are finished
-	running           // its code goes on without an access
-	obstructed        // another thread came in its way
+	idle    = iota // all its jobs are finished
+	running        // its code goes on without an access
 	begin
 	readHeld
 	readVersion
@@ -19,12 +18,17 @@ const (
 	readAgain
 	getStatus
 	getOwner
+	rivalStatus
+	markRival
 	getVersion
+	extendClock
+	extendVersion
 	takeTicket
 	showRank
 	commitStatus
 	commitGate
 	commitClock
+	commitCheck
 	commitShut
 	commitStamp
 	commitLeave
@@ -33,6 +37,11 @@ const (
 	commitOwner
 	letGo
 	end
+	failGate
+	failOwner
+	failTicket
+	failStatus
+	await
 )
 
 // statusBase parts a status: the rank is how often it goes into it, the mark what remains.
@@ -40,14 +49,16 @@ const statusBase = 8
 
 // Thread is a thread and how far it has come.
 type Thread struct {
-	config  api.Config
-	number  int
-	mine    []int // the numbers of its jobs
-	current int   // which of these it is at
-	rank    int
-	step    int
-	order   cells.Order // the access of this step
-	attempt attempt
+	config   api.Config
+	number   int
+	mine     []int // the numbers of its jobs
+	current  int   // which of these it is at
+	rank     int
+	failures int // of the job that it is at
+	rest     int // how many of its picks make no access yet
+	step     int
+	order    cells.Order // the access of this step
+	attempt  attempt
 }
 
 // attempt is what a thread forgets when its next attempt begins.
@@ -55,12 +66,21 @@ type attempt struct {
 	machine machine.Machine
 	turn    machine.Turn // what the code has come to
 	valid   int
+	reads   []looked
 	writes  []written
 	held    []int // stripes
 	version int   // what a Read saw of the version ahead of the word
 	value   int   // what it saw of the word then
-	stamp   int
-	at      int // the place in the list that is being gone through
+	rival   int   // the name of the thread that holds the stripe it would get
+	wayTo   int   // the name of the thread that it gave way to, or 0
+	clock   int   // what it saw of the clock as it began to extend, or in the gate
+	at      int   // the place in the list that is being gone through
+}
+
+// looked is a stripe in the read log, with its version.
+type looked struct {
+	stripe  int
+	version int
 }
 
 // written is a word in the write log.
@@ -82,13 +102,17 @@ func New(c api.Config, number int, jobs []api.Job) Thread {
 }
 
 // Pick makes the thread's next access, and all that follows it up to where another one is due. The jobs are those that New was given.
-func (t *Thread) Pick(jobs []api.Job, shared *cells.Cells) api.Access {
-	if t.step == idle || t.step == obstructed {
+func (t *Thread) Pick(jobs []api.Job, shared *cells.Cells, draw int) api.Access {
+	if t.step == idle {
+		return api.Access{}
+	}
+	if t.rest > 0 {
+		t.rest--
 		return api.Access{}
 	}
 	code := jobs[t.mine[t.current]].Code
 	access := shared.Make(t.order)
-	t.follow(access)
+	t.follow(access, draw)
 	// Every turn of the machine costs fuel, so this ends.
 	for t.step == running {
 		t.turn(code)
@@ -97,18 +121,20 @@ func (t *Thread) Pick(jobs []api.Job, shared *cells.Cells) api.Access {
 }
 
 // follow goes on from an access that was just made.
-func (t *Thread) follow(access api.Access) {
+func (t *Thread) follow(access api.Access, draw int) {
 	switch t.step {
 	case begin:
 		t.attempt = attempt{valid: access.Seen}
 		t.step = running
 	case readHeld, readVersion, readWord, readAgain:
 		t.followRead(access.Seen)
-	case getStatus, getOwner, getVersion:
+	case getStatus, getOwner, rivalStatus, markRival, getVersion:
 		t.followGet(access.Seen)
+	case extendClock, extendVersion:
+		t.followExtend(access.Seen)
 	case takeTicket, showRank:
 		t.followTicket(access)
-	case commitStatus, commitGate, commitClock:
+	case commitStatus, commitGate, commitClock, commitCheck:
 		t.followCommit(access.Seen)
 	case commitShut, commitStamp, commitLeave, commitWord, commitVersion, commitOwner:
 		t.followCommitStore()
@@ -116,9 +142,13 @@ func (t *Thread) follow(access api.Access) {
 		t.attempt.at++
 		t.letGoNext()
 	case end:
-		t.current++
-		t.rank = 0
-		t.beginAttempt()
+		t.nextJob()
+	case failGate, failOwner, failTicket:
+		t.followFail(access.Put)
+	case failStatus:
+		t.lose(access.Seen, draw)
+	case await:
+		t.awaitWinner(access.Seen)
 	}
 }
 
@@ -165,17 +195,24 @@ func (t *Thread) endAttempt() {
 	t.store(end, t.ownStatus(), 0)
 }
 
+func (t *Thread) nextJob() {
+	t.current++
+	t.rank = 0
+	t.failures = 0
+	t.beginAttempt()
+}
+
 // letGoNext gives back the stripes of a code that did not come to its end, from the place at on.
 func (t *Thread) letGoNext() {
-	a := &t.attempt
-	if a.at < len(a.held) {
-		t.store(letGo, cells.Owner(t.config, a.held[a.at]), 0)
+	if t.attempt.at < len(t.attempt.held) {
+		t.giveBack(letGo)
 	} else {
 		t.endAttempt()
 	}
 }
 
-// obstruct is where another thread has come in the way. What a thread does then is not built yet: it makes no access any more.
-func (t *Thread) obstruct() {
-	t.step = obstructed
+// giveBack frees the stripe at the place at. It is called with such a place alone.
+func (t *Thread) giveBack(step int) {
+	stripe := t.attempt.held[t.attempt.at]
+	t.store(step, cells.Owner(t.config, stripe), 0)
 }

@@ -13,32 +13,7 @@ func (t *Thread) write() {
 		t.step = running
 		return
 	}
-	t.load(getStatus, t.ownStatus())
-}
-
-func (t *Thread) followGet(seen int) {
-	a := &t.attempt
-	switch t.step {
-	case getStatus:
-		if marked(seen) {
-			t.obstruct()
-			return
-		}
-		t.swap(getOwner, cells.Owner(t.config, t.stripe()), 0, t.name())
-	case getOwner:
-		if seen != 0 {
-			t.obstruct()
-			return
-		}
-		a.held = append(a.held, t.stripe())
-		t.load(getVersion, cells.Version(t.stripe()))
-	case getVersion:
-		if seen > a.valid {
-			t.obstruct()
-			return
-		}
-		t.writeGot()
-	}
+	t.get()
 }
 
 // writeGot ends a Write for which a stripe was got.
@@ -60,7 +35,7 @@ func (t *Thread) followTicket(access api.Access) {
 		t.swap(showRank, t.ownStatus(), 0, statusBase*t.rank)
 	case showRank:
 		if access.Seen != 0 {
-			t.obstruct()
+			t.fail()
 			return
 		}
 		t.step = running
