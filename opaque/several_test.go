@@ -349,6 +349,16 @@ func TestNextJobBeginsAnew(t *testing.T) {
 		[]int{2, 1, 0, 2, 1, 0, 0, 70}}.perform(t)
 }
 
+func TestSeveralExample(t *testing.T) {
+	code := []api.Ins{set(1, 7), write(0, 1)}
+	s := api.Setup{Config: api.Config{Threads: 2, Words: 1, Stripes: 1, Fuel: 10}, Mem: []int{5}, Jobs: []api.Job{{Thread: 0, Code: code}, {Thread: 1, Code: code}}}
+	six := "1:0:0:0 1:5:0:0 3:4:0:1 1:0:0:0 1:6:0:0 3:4:1:1 4:1:0:1 2:6:0:8 1:0:0:0 1:6:8:8 3:4:1:1 1:5:0:0 3:5:0:2 1:6:8:8"
+	picks := append(times(3, 0), times(11, 1)...)
+	wantPlay(t, "example 6", s, picks, six, []int{0, 1, 0, 0, 1, 2, 8, 5})
+	seven := six + " 1:3:0:0 1:5:2:2 2:4:1:0 4:1:1:2 2:5:2:16 1:6:8:8 1:6:8:8"
+	wantPlay(t, "example 7", s, append(picks, times(7, 0)...), seven, []int{0, 2, 0, 0, 0, 16, 8, 5})
+}
+
 // The cells where the picks end in the midst of a failure, of a rest or of a wait.
 func TestCellsInFailure(t *testing.T) {
 	s := act{config: crowd(2, 2, 0, 0), jobs: []api.Job{job(0, reads(0), writes(1)), job(1, writes(0))}}.setup()
