@@ -15,6 +15,9 @@ type throng struct {
 	members []*member
 	access  api.Access // of this pick
 	draw    int        // of this pick
+	count   int        // of the picks so far
+	begun   []*api.Attempt
+	results []api.Result
 	met     map[string]int
 	stamped []int // the jobs that have stored a stamp, in this order
 }
@@ -36,6 +39,7 @@ type member struct {
 	values [8]int
 	inGate bool
 	wayTo  int // 1 more than the thread that it gave way to
+	told   *api.Attempt
 }
 
 // What a member throws to leave an attempt that has failed, or a play that is over.
@@ -43,7 +47,7 @@ type undone struct{}
 type over struct{}
 
 func newThrong(s api.Setup) *throng {
-	g := &throng{setup: s, met: map[string]int{}}
+	g := &throng{setup: s, met: map[string]int{}, results: make([]api.Result, len(s.Jobs))}
 	g.cells = append(make([]int, 3+2*s.Config.Stripes+s.Config.Threads), s.Mem...)
 	for me := range s.Config.Threads {
 		m := &member{throng: g, me: me}
@@ -66,10 +70,20 @@ func (g *throng) end() {
 func (g *throng) pick(p api.Pick) api.Access {
 	g.access = api.Access{}
 	g.draw = p.Draw
+	g.count++
 	if p.Thread >= 0 && p.Thread < len(g.members) {
 		g.members[p.Thread].resume()
 	}
 	return g.access
+}
+
+// history is all attempts as they stand.
+func (g *throng) history() []api.Attempt {
+	var h []api.Attempt
+	for _, a := range g.begun {
+		h = append(h, *a)
+	}
+	return h
 }
 
 func (g *throng) version(stripe int) int { return 3 + stripe }
@@ -141,8 +155,10 @@ func (m *member) attempt(code []api.Ins) (fate int) {
 		}
 	}()
 	m.valid = m.load(0)
+	m.told = &api.Attempt{Thread: m.me, Job: m.job, Start: m.count, Valid: m.valid}
+	m.begun = append(m.begun, m.told)
 	m.log, m.held, m.addrs, m.inGate, m.wayTo = nil, nil, nil, false, 0
-	fate = interpret(m.setup.Config, code, m)
+	fate, regs := interpret(m.setup.Config, code, m)
 	if fate == api.Done && len(m.held) > 0 {
 		m.commit()
 	}
@@ -152,10 +168,18 @@ func (m *member) attempt(code []api.Ins) (fate int) {
 		}
 	}
 	m.store(m.status(m.me), 0)
+	m.told.End, m.told.Fate = m.count, fate
+	m.results[m.job] = api.Result{Fate: fate, Regs: regs}
 	return fate
 }
 
 func (m *member) read(a int) int {
+	value := m.fetch(a)
+	m.told.Notes = append(m.told.Notes, api.Note{Op: api.Read, Addr: a, Value: value})
+	return value
+}
+
+func (m *member) fetch(a int) int {
 	s := a % m.setup.Config.Stripes
 	if slices.Contains(m.addrs, a) {
 		return m.values[a]
@@ -195,6 +219,7 @@ func (m *member) write(a, value int) {
 		m.addrs = append(m.addrs, a)
 	}
 	m.values[a] = value
+	m.told.Notes = append(m.told.Notes, api.Note{Op: api.Write, Addr: a, Value: value})
 	if got && m.rank == 0 && c.Greedy > 0 && c.Greedy == len(m.held) {
 		m.rank = m.take()
 		if m.swap(m.status(m.me), 0, 8*m.rank) != 0 {
@@ -245,6 +270,7 @@ func (m *member) extend(where string) {
 		}
 	}
 	m.valid = clock
+	m.told.Valid = clock
 	m.met["extends "+where]++
 }
 
@@ -269,6 +295,7 @@ func (m *member) commit() {
 		m.store(m.version(s), api.Shut)
 	}
 	m.store(0, clock+1)
+	m.told.Stamp = clock + 1
 	m.stamped = append(m.stamped, m.job)
 	m.store(2, 0)
 	for _, a := range m.addrs {
@@ -294,6 +321,7 @@ func (m *member) fail(why string) {
 		m.met["a ticket behind failures"]++
 	}
 	mark := m.store(m.status(m.me), 8*m.rank) % 8
+	m.told.End, m.told.Fate = m.count, api.Failed
 	if mark != 0 {
 		m.awaitWinner(mark, "its mark")
 	} else if m.wayTo != 0 {
@@ -427,8 +455,10 @@ func compare(t *testing.T, s api.Setup, picks []api.Pick, d *dice, met map[strin
 		want = append(want, g.pick(p))
 	}
 	wantPlay(t, "as modelled, cut off", s, picks, text(want), g.cells)
+	wantCame(t, "as modelled, cut off", s, picks, g.results, g.history())
 	rest, wantRest := g.finish(d)
 	all := slices.Concat(picks, rest)
+	wantCame(t, "as modelled, to the end", s, all, g.results, g.history())
 	l, e := Play(s, all)
 	c, eCells := Cells(s, all)
 	if e != api.OK || !slices.Equal(l, slices.Concat(want, wantRest)) {

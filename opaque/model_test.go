@@ -98,27 +98,26 @@ type reach interface {
 	write(addr, value int)
 }
 
-// interpret runs a code up to its fate.
-func interpret(c api.Config, code []api.Ins, words reach) int {
-	var r [4]int
+// interpret runs a code up to its fate, and tells its registers too.
+func interpret(c api.Config, code []api.Ins, words reach) (fate int, r [4]int) {
 	place := 0
 	for fuel := c.Fuel; place != len(code); fuel-- {
 		if fuel == 0 {
-			return api.Spent
+			return api.Spent, r
 		}
 		i := code[place]
 		place++
 		if !formedIn(i, len(code)) {
-			return api.Broke
+			return api.Broke, r
 		}
 		if i.Op == api.Read && r[i.B] >= c.Words || i.Op == api.Write && r[i.A] >= c.Words {
-			return api.Broke
+			return api.Broke, r
 		}
 		switch i.Op {
 		case api.Stop:
-			return api.Done
+			return api.Done, r
 		case api.Quit:
-			return api.Left
+			return api.Left, r
 		case api.Set:
 			r[i.A] = i.B
 		case api.Add:
@@ -137,7 +136,7 @@ func interpret(c api.Config, code []api.Ins, words reach) int {
 			words.write(r[i.A], r[i.B])
 		}
 	}
-	return api.Done
+	return api.Done, r
 }
 
 // formedIn is the table's column "well formed if", for a code of any length.
@@ -158,7 +157,7 @@ func formedIn(i api.Ins, length int) bool {
 func (m *model) job(code []api.Ins) {
 	m.rank, m.held, m.addrs = 0, nil, nil
 	m.load(0)
-	fate := interpret(m.config, code, m)
+	fate, _ := interpret(m.config, code, m)
 	if fate == api.Done && len(m.held) > 0 {
 		m.commit()
 	}

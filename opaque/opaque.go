@@ -5,6 +5,7 @@ import (
 	"opaque/alone"
 	"opaque/api"
 	"opaque/check"
+	"opaque/judge"
 	"opaque/play"
 )
 
@@ -40,10 +41,22 @@ func Cells(s api.Setup, picks []api.Pick) ([]int, api.Errno) {
 }
 
 // Jobs tells what has come of the jobs (P8).
-func Jobs(s api.Setup, picks []api.Pick) ([]api.Result, api.Errno) { return nil, api.OK }
+func Jobs(s api.Setup, picks []api.Pick) ([]api.Result, api.Errno) {
+	e := check.Setup(s)
+	if e != api.OK {
+		return nil, e
+	}
+	return play.Jobs(s, picks), api.OK
+}
 
 // History tells all attempts (P9).
-func History(s api.Setup, picks []api.Pick) ([]api.Attempt, api.Errno) { return nil, api.OK }
+func History(s api.Setup, picks []api.Pick) ([]api.Attempt, api.Errno) {
+	e := check.Setup(s)
+	if e != api.OK {
+		return nil, e
+	}
+	return play.History(s, picks), api.OK
+}
 
 // Judge tells the first attempt that is not sound (P12).
-func Judge(mem []int, h []api.Attempt) int { return 0 }
+func Judge(mem []int, h []api.Attempt) int { return judge.First(mem, h) }

@@ -48,11 +48,17 @@ func named(c api.Config, word string) api.Access {
 	return api.Access{Kind: sceneNumber(0, p[0]), Cell: cellNumber(c, 0, p[1]), Seen: sceneNumber(0, p[2]), Put: sceneNumber(0, p[3])}
 }
 
-// perform compares the accesses and cells behind every one of the first picks.
+// perform compares the accesses and cells behind every one of the first picks with the script, and the jobs and attempts with the model.
 func (a act) perform(t *testing.T) {
 	t.Helper()
 	picks, want := a.played()
+	g := newThrong(a.setup())
+	defer g.end()
 	for n := 0; n <= len(picks); n++ {
+		if n > 0 {
+			g.pick(picks[n-1])
+		}
+		wantCame(t, fmt.Sprintf("%s, behind %d picks", a.what, n), a.setup(), picks[:n], g.results, g.history())
 		l, e := Play(a.setup(), picks[:n])
 		if e != api.OK || !slices.Equal(l, want[:n]) {
 			t.Errorf("P5: %s: error %d, behind %d picks %s, want %s", a.what, e, n, text(l[max(0, n-3):]), text(want[max(0, n-3):n]))

@@ -37,7 +37,7 @@ func (t *Thread) followCommit(seen int) {
 // checkNext looks at the stripes of the read log from the place at on, and then shuts those that are held. As long as the clock stands at the valid time, nothing can have changed.
 func (t *Thread) checkNext() {
 	a := &t.attempt
-	for a.clock != a.valid && a.at < len(a.reads) {
+	for a.clock != a.told.Valid && a.at < len(a.reads) {
 		stripe := a.reads[a.at].stripe
 		if !a.holds(stripe) {
 			t.load(commitCheck, cells.Version(stripe))
@@ -62,6 +62,7 @@ func (t *Thread) followCommitStore() {
 		a.at++
 		t.shutNext()
 	case commitStamp:
+		a.told.Stamp = a.stamp()
 		t.store(commitLeave, cells.Gate, 0)
 	case commitLeave:
 		a.at = 0

@@ -33,7 +33,7 @@ func (t *Thread) extendNext() {
 		t.load(extendVersion, cells.Version(a.reads[a.at].stripe))
 		return
 	}
-	a.valid = a.clock
+	a.told.Valid = a.clock
 	t.endExtended()
 }
 

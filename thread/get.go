@@ -28,7 +28,7 @@ func (t *Thread) followGet(seen int) {
 		// Whether the mark came there or not: the rival may be gone by now.
 		t.get()
 	case getVersion:
-		if seen > t.attempt.valid {
+		if seen > t.attempt.told.Valid {
 			t.extend()
 			return
 		}

@@ -47,7 +47,7 @@ func (t *Thread) trust(version int) {
 		return
 	}
 	a.look(t.stripe(), version)
-	if version > a.valid {
+	if version > a.told.Valid {
 		t.extend()
 		return
 	}
@@ -64,8 +64,11 @@ func (a *attempt) look(stripe int, version int) {
 	a.reads = append(a.reads, looked{stripe: stripe, version: version})
 }
 
+// give ends a Read, whichever way it came to its value.
 func (t *Thread) give(value int) {
-	t.attempt.machine.Give(value)
+	a := &t.attempt
+	a.machine.Give(value)
+	a.note(value)
 	t.step = running
 }
 

@@ -51,8 +51,9 @@ const statusBase = 8
 type Thread struct {
 	config   api.Config
 	number   int
-	mine     []int // the numbers of its jobs
-	current  int   // which of these it is at
+	mine     []int        // the numbers of its jobs
+	current  int          // which of these it is at
+	results  []api.Result // of those that are finished, in this order
 	rank     int
 	failures int // of the job that it is at
 	rest     int // how many of its picks make no access yet
@@ -63,9 +64,9 @@ type Thread struct {
 
 // attempt is what a thread forgets when its next attempt begins.
 type attempt struct {
+	told    api.Attempt // its valid time stands here alone
 	machine machine.Machine
 	turn    machine.Turn // what the code has come to
-	valid   int
 	reads   []looked
 	writes  []written
 	held    []int // stripes
@@ -101,8 +102,8 @@ func New(c api.Config, number int, jobs []api.Job) Thread {
 	return t
 }
 
-// Pick makes the thread's next access, and all that follows it up to where another one is due. The jobs are those that New was given.
-func (t *Thread) Pick(jobs []api.Job, shared *cells.Cells, draw int) api.Access {
+// Pick makes the thread's next access, and all that follows it up to where another one is due. The jobs are those that New was given. The number is the pick's, above 0.
+func (t *Thread) Pick(jobs []api.Job, shared *cells.Cells, number int, draw int) api.Access {
 	if t.step == idle {
 		return api.Access{}
 	}
@@ -112,7 +113,7 @@ func (t *Thread) Pick(jobs []api.Job, shared *cells.Cells, draw int) api.Access 
 	}
 	code := jobs[t.mine[t.current]].Code
 	access := shared.Make(t.order)
-	t.follow(access, draw)
+	t.follow(access, number, draw)
 	// Every turn of the machine costs fuel, so this ends.
 	for t.step == running {
 		t.turn(code)
@@ -121,11 +122,10 @@ func (t *Thread) Pick(jobs []api.Job, shared *cells.Cells, draw int) api.Access 
 }
 
 // follow goes on from an access that was just made.
-func (t *Thread) follow(access api.Access, draw int) {
+func (t *Thread) follow(access api.Access, number int, draw int) {
 	switch t.step {
 	case begin:
-		t.attempt = attempt{valid: access.Seen}
-		t.step = running
+		t.start(access.Seen, number)
 	case readHeld, readVersion, readWord, readAgain:
 		t.followRead(access.Seen)
 	case getStatus, getOwner, rivalStatus, markRival, getVersion:
@@ -142,10 +142,11 @@ func (t *Thread) follow(access api.Access, draw int) {
 		t.attempt.at++
 		t.letGoNext()
 	case end:
-		t.nextJob()
+		t.finishJob(number)
 	case failGate, failOwner, failTicket:
 		t.followFail(access.Put)
 	case failStatus:
+		t.attempt.conclude(api.Failed, number)
 		t.lose(access.Seen, draw)
 	case await:
 		t.awaitWinner(access.Seen)
@@ -195,7 +196,10 @@ func (t *Thread) endAttempt() {
 	t.store(end, t.ownStatus(), 0)
 }
 
-func (t *Thread) nextJob() {
+func (t *Thread) finishJob(number int) {
+	a := &t.attempt
+	a.conclude(a.turn.Fate, number)
+	t.results = append(t.results, api.Result{Fate: a.turn.Fate, Regs: a.machine.Regs})
 	t.current++
 	t.rank = 0
 	t.failures = 0

@@ -9,7 +9,7 @@ import (
 func (t *Thread) write() {
 	a := &t.attempt
 	if a.holds(t.stripe()) {
-		a.log(a.turn.Addr, a.turn.Value)
+		a.log()
 		t.step = running
 		return
 	}
@@ -19,7 +19,7 @@ func (t *Thread) write() {
 // writeGot ends a Write for which a stripe was got.
 func (t *Thread) writeGot() {
 	a := &t.attempt
-	a.log(a.turn.Addr, a.turn.Value)
+	a.log()
 	greedy := t.config.Greedy
 	if t.rank == 0 && greedy > 0 && len(a.held) == greedy {
 		t.take(takeTicket, cells.Tickets)
@@ -42,12 +42,14 @@ func (t *Thread) followTicket(access api.Access) {
 	}
 }
 
-// log lays a value into the write log, which has each word once.
-func (a *attempt) log(addr int, value int) {
-	place := a.find(addr)
+// log lays what the code writes into the write log, which has each word once.
+func (a *attempt) log() {
+	w := written{addr: a.turn.Addr, value: a.turn.Value}
+	a.note(w.value)
+	place := a.find(w.addr)
 	if place < len(a.writes) {
-		a.writes[place].value = value
+		a.writes[place] = w
 		return
 	}
-	a.writes = append(a.writes, written{addr: addr, value: value})
+	a.writes = append(a.writes, w)
 }
